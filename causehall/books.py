@@ -1,0 +1,141 @@
+"""Books: closed sets of letters, and the orders of them that keep causes."""
+
+from causehall.counts import Counts
+from causehall.errors import Forged, Full, Known, Lacks, NoCauses, NoLetter, NotThere, Unlike
+from causehall.forms import MOST_LETTERS, check_members, is_ident, is_list
+from causehall.letters import Letter
+
+
+class Book:
+    """Letters in the order in which they came in, always a closed set."""
+
+    def __init__(self, members):
+        check_members(members)
+        self._members = members
+        self._letters = {}
+        self._counts = Counts([0] * members)
+
+    def __len__(self):
+        return len(self._letters)
+
+    def keep(self, letter):
+        """Take in a letter."""
+        self._check_new(letter)
+        row = letter.causes()
+        lacking = ids_beyond(self._counts, row)
+        if lacking:
+            raise Lacks(lacking)
+        if not self._covers_its_causes(row):
+            raise NoCauses(row)
+        if len(self._letters) == MOST_LETTERS:
+            raise Full(MOST_LETTERS)
+        self._letters[letter.id_of()] = letter
+        self._counts = self._counts.raised(letter.sender())
+
+    def counts(self):
+        """How many letters of each member are here."""
+        return self._counts
+
+    def ids(self):
+        """The ids of all letters, in the order in which they came in."""
+        return list(self._letters)
+
+    def letter(self, ident):
+        """The letter of this id."""
+        if not is_ident(ident, self._members) or ident not in self._letters:
+            raise NotThere(ident)
+        return self._letters[ident]
+
+    def ahead(self, ident):
+        """The ids of all letters ahead of this one, rising."""
+        return ids_beyond(Counts([0] * self._members), self.letter(ident).causes())
+
+    def behind(self, ident):
+        """The ids of all letters that this one is ahead of, rising."""
+        letter = self.letter(ident)
+        return sorted([other.id_of() for other in self._letters.values() if letter.is_ahead_of(other)])
+
+    def beside(self, ident):
+        """The ids of all letters beside this one, rising."""
+        apart = [ident, *self.ahead(ident), *self.behind(ident)]
+        return sorted([other for other in self._letters if other not in apart])
+
+    def twin(self):
+        """A Book of the same letters, which goes its own way from then on."""
+        twin = Book(self._members)
+        for letter in list(self._letters.values()):
+            twin.keep(letter)
+        return twin
+
+    def direct(self, ident):
+        """The ids of the direct causes of this letter, rising."""
+        causes = [self._letters[cause] for cause in self.ahead(ident)]
+        return [cause.id_of() for cause in causes if not any([cause.is_ahead_of(other) for other in causes])]
+
+    def many_orders(self):
+        """How many orders of all letters keep causes."""
+        # Beginnings that hold the same letters go on alike, so they are counted together.
+        beginnings = {(0,) * self._members: 1}
+        for _ in range(len(self._letters)):
+            beginnings = self._longer(beginnings)
+        return sum(beginnings.values())
+
+    def is_order(self, thing):
+        """Whether the thing is an order of all letters that keeps causes."""
+        if not is_list(thing) or len(thing) != len(self._letters):
+            return False
+        counts = Counts([0] * self._members)
+        for ident in thing:
+            if not is_ident(ident, self._members) or ident not in self._letters:
+                return False
+            letter = self._letters[ident]
+            if counts.of(letter.sender()) != letter.number() - 1 or not counts.covers(letter.causes()):
+                return False
+            counts = counts.raised(letter.sender())
+        return True
+
+    def places(self, ident):
+        """The least and the greatest place of this letter in any order that keeps causes."""
+        return (len(self.ahead(ident)), len(self._letters) - 1 - len(self.behind(ident)))
+
+    def _check_new(self, letter):
+        """Refuse what is no letter for this book, and one whose id is here."""
+        if not isinstance(letter, Letter):
+            raise NoLetter(letter)
+        if len(letter.causes()) != self._members:
+            raise Unlike(letter)
+        ident = letter.id_of()
+        if ident not in self._letters:
+            return
+        if self._letters[ident] == letter:
+            raise Known(ident)
+        raise Forged(letter)
+
+    def _covers_its_causes(self, row):
+        """Whether the row has all causes of the letters that it has, which are here."""
+        # The last letter of a member has all causes of the ones ahead of it.
+        last = [(member, count) for member, count in enumerate(row.told()) if count > 0]
+        return all([row.covers(self._letters[ident].causes()) for ident in last])
+
+    def _longer(self, beginnings):
+        """How many beginnings with one letter more there are, by the counts that they have."""
+        longer = {}
+        for counts, many in beginnings.items():
+            for member in range(self._members):
+                if self._may_follow(counts, (member, counts[member] + 1)):
+                    further = (*counts[:member], counts[member] + 1, *counts[member + 1:])
+                    longer[further] = longer.get(further, 0) + many
+        return longer
+
+    def _may_follow(self, counts, ident):
+        """Whether the letter of this id is here and has all its causes in these counts, a tuple."""
+        if ident not in self._letters:
+            return False
+        row = self._letters[ident].causes().told()
+        return all([count >= wanted for count, wanted in zip(counts, row)])
+
+
+def ids_beyond(counts, row):
+    """The ids of the letters that the row has and the counts have not, rising."""
+    members = range(len(row))
+    return [(member, number) for member in members for number in range(counts.of(member) + 1, row.of(member) + 1)]
