@@ -63,14 +63,13 @@ class Book:
     def twin(self):
         """A Book of the same letters, which goes its own way from then on."""
         twin = Book(self._members)
-        for letter in list(self._letters.values()):
-            twin.keep(letter)
+        twin._letters = {ident: letter for ident, letter in self._letters.items()}
+        twin._counts = self._counts
         return twin
 
     def direct(self, ident):
         """The ids of the direct causes of this letter, rising."""
-        causes = [self._letters[cause] for cause in self.ahead(ident)]
-        return [cause.id_of() for cause in causes if not any([cause.is_ahead_of(other) for other in causes])]
+        return direct_causes(self._letters, self.letter(ident))
 
     def many_orders(self):
         """How many orders of all letters keep causes."""
@@ -139,3 +138,10 @@ def ids_beyond(counts, row):
     """The ids of the letters that the row has and the counts have not, rising."""
     members = range(len(row))
     return [(member, number) for member in members for number in range(counts.of(member) + 1, row.of(member) + 1)]
+
+
+def direct_causes(letters, letter):
+    """The ids of the direct causes of the letter, rising, by a dict of letters that has all its causes."""
+    # The earlier letters of a member are ahead of its last one that the row has.
+    last = [letters[ident] for ident in enumerate(letter.causes().told()) if ident[1] > 0]
+    return [cause.id_of() for cause in last if not any([cause.is_ahead_of(other) for other in last])]

@@ -53,27 +53,34 @@ def row_ahead(ahead, members):
 
 def short_of(book, ident):
     """The short letter of this id."""
-    letter = book.letter(ident)
-    idents = [cause for cause in book.direct(ident) if cause[0] != letter.sender()]
+    return short_by(book.letter(ident), book.direct(ident))
+
+
+def short_by(letter, direct):
+    """The short letter of a letter that has these direct causes."""
+    idents = [cause for cause in direct if cause[0] != letter.sender()]
     return (letter.sender(), letter.number(), letter.word(), tuple(idents))
 
 
 def whole_of(book, short):
     """The whole letter of which the short one tells, by the letters of the Book."""
-    members = len(book.counts())
+    return whole_by(len(book.counts()), {ident: book.letter(ident) for ident in book.ids()}, short)
+
+
+def whole_by(members, letters, short):
+    """The whole letter of which the short one tells, by a dict of letters."""
     if not is_short(short, members):
         raise NoShort(short)
     sender, number, word, idents = short
     named = with_own_ahead(sender, number, idents)
-    there = book.ids()
-    lacking = [ident for ident in named if ident not in there]
+    lacking = [ident for ident in named if ident not in letters]
     if lacking:
         raise Lacks(lacking)
-    letters = [book.letter(ident) for ident in named]
-    others = [letter for letter in letters if letter.sender() != sender]
-    if not are_direct(others, letters) or any([other.causes().of(sender) >= number for other in others]):
+    causes = [letters[ident] for ident in named]
+    others = [cause for cause in causes if cause.sender() != sender]
+    if not are_direct(others, causes) or any([other.causes().of(sender) >= number for other in others]):
         raise NoShort(short)
-    return Letter(sender, number, word, all_joined(members, [letter.counts_with() for letter in letters]))
+    return Letter(sender, number, word, all_joined(members, [cause.counts_with() for cause in causes]))
 
 
 def is_short(thing, members):
