@@ -18,6 +18,13 @@ def is_member(thing, members):
     return is_whole(thing, 0, members - 1)
 
 
+def are_two_members(thing, members):
+    """Whether the thing is a tuple of two unlike ones of so many members."""
+    if not isinstance(thing, tuple) or len(thing) != 2:
+        return False
+    return is_member(thing[0], members) and is_member(thing[1], members) and thing[0] != thing[1]
+
+
 def is_ident(thing, members, high=None):
     """Whether the thing has the form of an id of one of so many members."""
     if not isinstance(thing, tuple) or len(thing) != 2:

@@ -196,3 +196,15 @@ class Maker:
     def book(self):
         """A Book of all letters."""
         return book_with(self.members, self.letters())
+
+
+def spoilt(right, parts):
+    """The right tuple with each of its parts exchanged for other things in turn, and of other lengths and kinds.
+
+    Of each place parts has the things that are wrong there, None where all odd things are.
+    """
+    wrong = [list(right), right[:-1], (*right, 1), (*right, right[-1]), (right,), [right], {right: right}, right[1:]]
+    for place in range(len(right)):
+        for thing in odd_things() if parts[place] is None else parts[place]:
+            wrong.append(right[:place] + (thing,) + right[place + 1:])
+    return wrong

@@ -125,6 +125,7 @@ class Sending(EarCase):
         for number in range(1, 31):
             self.same(str(ear.send("a")), f"0 {number} a {number - 1} 0")
         self.same(ear.counts().told(), (30, 0))
+        self.refuses(NoWord, "Tea", ear.send, "Tea")
 
 
 class Taking(EarCase):
