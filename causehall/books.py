@@ -4,6 +4,11 @@ from causehall.counts import Counts
 from causehall.errors import Forged, Full, Known, Lacks, NoCauses, NoLetter, NotThere, Unlike
 from causehall.forms import MOST_LETTERS, check_members, is_ident, is_list
 from causehall.letters import Letter
+from causehall.shortrows import changes_of
+
+# Counts packed into one number have five bits for each member, which hold thirty letters and less.
+BITS = 5
+MOST_IN_BITS = 31
 
 
 class Book:
@@ -14,6 +19,7 @@ class Book:
         self._members = members
         self._letters = {}
         self._counts = Counts([0] * members)
+        self._waits = [[] for _ in range(members)]
 
     def __len__(self):
         return len(self._letters)
@@ -29,6 +35,9 @@ class Book:
             raise NoCauses(row)
         if len(self._letters) == MOST_LETTERS:
             raise Full(MOST_LETTERS)
+        # Behind the sender's letter ahead this one waits for what changed in the row alone.
+        changes = changes_of(letter, self._letters.get((letter.sender(), letter.number() - 1)))
+        self._waits[letter.sender()].append([(BITS * member, count) for member, count in changes])
         self._letters[letter.id_of()] = letter
         self._counts = self._counts.raised(letter.sender())
 
@@ -65,6 +74,7 @@ class Book:
         twin = Book(self._members)
         twin._letters = {ident: letter for ident, letter in self._letters.items()}
         twin._counts = self._counts
+        twin._waits = [list(waits) for waits in self._waits]
         return twin
 
     def direct(self, ident):
@@ -73,10 +83,13 @@ class Book:
 
     def many_orders(self):
         """How many orders of all letters keep causes."""
-        # Beginnings that hold the same letters go on alike, so they are counted together.
-        beginnings = {(0,) * self._members: 1}
+        # Behind a member's last letter stands one that waits for more than there can be.
+        never = [(0, MOST_IN_BITS)]
+        chains = [(BITS * member, [*waits, never]) for member, waits in enumerate(self._waits)]
+        # Beginnings that hold the same letters go on alike, so they are counted together, by their packed counts.
+        beginnings = {0: 1}
         for _ in range(len(self._letters)):
-            beginnings = self._longer(beginnings)
+            beginnings = longer(beginnings, chains)
         return sum(beginnings.values())
 
     def is_order(self, thing):
@@ -116,22 +129,22 @@ class Book:
         last = [(member, count) for member, count in enumerate(row.told()) if count > 0]
         return all([row.covers(self._letters[ident].causes()) for ident in last])
 
-    def _longer(self, beginnings):
-        """How many beginnings with one letter more there are, by the counts that they have."""
-        longer = {}
-        for counts, many in beginnings.items():
-            for member in range(self._members):
-                if self._may_follow(counts, (member, counts[member] + 1)):
-                    further = (*counts[:member], counts[member] + 1, *counts[member + 1:])
-                    longer[further] = longer.get(further, 0) + many
-        return longer
 
-    def _may_follow(self, counts, ident):
-        """Whether the letter of this id is here and has all its causes in these counts, a tuple."""
-        if ident not in self._letters:
-            return False
-        row = self._letters[ident].causes().told()
-        return all([count >= wanted for count, wanted in zip(counts, row)])
+def longer(beginnings, chains):
+    """How many beginnings with one letter more there are, by the packed counts that they have.
+
+    Of each member chains has the place of its bits, and for each of its letters what that one waits for.
+    """
+    further = {}
+    for counts, many in beginnings.items():
+        for place, waits in chains:
+            for other, count in waits[(counts >> place) & MOST_IN_BITS]:
+                if ((counts >> other) & MOST_IN_BITS) < count:
+                    break
+            else:
+                more = counts + (1 << place)
+                further[more] = further.get(more, 0) + many
+    return further
 
 
 def ids_beyond(counts, row):

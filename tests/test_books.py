@@ -3,6 +3,7 @@
 import itertools
 import math
 import signal
+import time
 import unittest
 
 from causehall.books import Book
@@ -28,6 +29,49 @@ def shown(book):
 def makers():
     """Histories of all numbers of members, with few and with many letters."""
     return [Maker(2 + seed % 4, seed).go(15 + 9 * seed, 1 + seed) for seed in range(30)]
+
+
+def own_ones(members, many):
+    """Letters of which each knows only its own member's ones ahead of it, so many of each member."""
+    return [letter_of(k, tuple(n if m == k else 0 for m in range(members))) for k in range(members)
+            for n in range(many[k])]
+
+
+def by_turns(members, rounds):
+    """Letters of two members: each of the first one's knows all ahead of it but the other's last one."""
+    letters = []
+    for k in range(rounds):
+        letters.append(letter_of(0, (k, max(k - 1, 0)) + (0,) * (members - 2)))
+        letters.append(letter_of(1, (k, k) + (0,) * (members - 2)))
+    return letters
+
+
+def step_by_step(book):
+    """How many orders there are, by looking at each member's next letter in each beginning anew."""
+    letters = {ident: book.letter(ident) for ident in book.ids()}
+    beginnings = {(0,) * len(book.counts()): 1}
+    for _ in letters:
+        longer = {}
+        for counts, many in beginnings.items():
+            for member in range(len(counts)):
+                ident = (member, counts[member] + 1)
+                if ident not in letters:
+                    continue
+                if all([count >= wanted for count, wanted in zip(counts, letters[ident].causes().told())]):
+                    further = (*counts[:member], counts[member] + 1, *counts[member + 1:])
+                    longer[further] = longer.get(further, 0) + many
+        beginnings = longer
+    return sum(beginnings.values())
+
+
+def least_time(call):
+    """The least time that the call takes, of five."""
+    times = []
+    for _ in range(5):
+        start = time.process_time()
+        call()
+        times.append(time.process_time() - start)
+    return min(times)
 
 
 class Making(HallCase):
@@ -331,8 +375,7 @@ class Orders(HallCase):
     def test_thirty_where_each_member_knows_only_its_own(self):
         for members, many in [(5, (6, 6, 6, 6, 6)), (5, (10, 8, 6, 4, 2)), (5, (1, 2, 3, 4, 20)), (4, (8, 8, 7, 7)),
                               (3, (10, 10, 10)), (2, (15, 15)), (2, (30, 0))]:
-            letters = [letter_of(k, tuple(n if m == k else 0 for m in range(members)))
-                       for k in range(members) for n in range(many[k])]
+            letters = own_ones(members, many)
             book = book_with(members, letters)
             wanted = math.factorial(30)
             for number in many:
@@ -341,6 +384,73 @@ class Orders(HallCase):
             for letter in letters:
                 sender, number = letter.id_of()
                 self.same(book.places((sender, number)), (number - 1, 29 - (many[sender] - number)))
+
+    def test_six_of_each_of_five_that_know_only_their_own(self):
+        letters = own_ones(5, (6, 6, 6, 6, 6))
+        book = book_with(5, letters)
+        self.same(book.many_orders(), 1370874167589326400)
+        self.same(book.twin().many_orders(), 1370874167589326400)
+        # Asked behind each letter, and with one that knows all others in the place of one that knows none.
+        turned, last = Book(5), letter_of(3, (6, 6, 6, 5, 6))
+        for many, letter in enumerate(sorted(letters, key=lambda letter: letter.number())[:25], start=1):
+            turned.keep(letter)
+            wanted = math.factorial(many)
+            for count in turned.counts().told():
+                wanted //= math.factorial(count)
+            self.same(turned.many_orders(), wanted)
+        self.same(math.factorial(29) // (math.factorial(6) ** 4 * math.factorial(5)),
+                  book_with(5, [one for one in letters if one.id_of() != (3, 6)] + [last]).many_orders())
+
+    def test_two_members_by_turns(self):
+        for members in range(2, 6):
+            book = Book(members)
+            for many, letter in enumerate(by_turns(members, 15), start=1):
+                book.keep(letter)
+                # The two letters of a round are beside each other, and behind all of the round ahead but one.
+                self.same(book.many_orders(), step_by_step(book))
+                self.same(book.many_orders(), self.of_turns(many))
+
+    def of_turns(self, many):
+        """How many orders so many letters of by_turns have, by pairs of counts."""
+        ways = {(0, 0): 1}
+        most = ((many + 1) // 2, many // 2)
+        for first in range(most[0] + 1):
+            for second in range(most[1] + 1):
+                right = second >= first - 2 and first >= second - 1 and (first, second) != (0, 0)
+                if right:
+                    ways[first, second] = ways.get((first - 1, second), 0) + ways.get((first, second - 1), 0)
+        return ways[most]
+
+    def test_many_letters_step_by_step(self):
+        for seed in range(24):
+            maker = Maker(2 + seed % 4, 2000 + seed).go(600, 12 + seed % 19)
+            book = Book(maker.members)
+            letters = maker.letters()
+            for many, letter in enumerate(letters, start=1):
+                book.keep(letter)
+                if many % 9 == 0 or many >= len(letters) - 1:
+                    self.same(book.many_orders(), step_by_step(book))
+            # A twin with a letter that knows all, and the first one with one that knows no more than its sender's last.
+            before, twin = book.many_orders(), book.twin()
+            if len(book) < 30:
+                twin.keep(letter_of(0, book.counts().told()))
+                self.same(twin.many_orders(), before)
+                count = book.counts().of(1)
+                row = book.letter((1, count)).counts_with().told() if count else (0,) * maker.members
+                book.keep(letter_of(1, row))
+                self.same(book.many_orders(), step_by_step(book))
+                self.same(twin.many_orders(), before)
+
+    def test_time_of_thirty(self):
+        # The way through all beginnings one by one takes as long on a slow machine as this machine is slow.
+        book = book_with(5, own_ones(5, (6, 6, 6, 6, 6)))
+        self.same(step_by_step(book), book.many_orders())
+        plainly = least_time(lambda: step_by_step(book))
+        self.assertLess(2 * least_time(book.many_orders), plainly)
+        for maker in [Maker(5, 4).go(4000), Maker(4, 5).go(4000)]:
+            book = maker.book()
+            self.same(len(book), 30)
+            self.assertLess(least_time(book.many_orders), plainly / 2)
 
     def test_thirty_where_each_knows_all(self):
         for members in range(2, 6):
