@@ -45,6 +45,14 @@ def done(members, deeds, short=False):
     return hall
 
 
+def like_deed(one, other, deed):
+    """The deed of the other hall, which stands alike, that is like this one, by its own numbers."""
+    if deed[0] not in ("come", "lose", "double"):
+        return deed
+    way = [way[1:] for way in one.under_way() if way[0] == deed[1]][0]
+    return (deed[0], [way_there[0] for way_there in other.under_way() if way_there[1:] == way][-1])
+
+
 class ModelCase(HallCase):
 
     def stands_like(self, hall, model):
@@ -348,13 +356,9 @@ class Standing(ModelCase):
     def do_alike(self, one, other, chance):
         """Two halls that stand alike do alike, flows apart."""
         for _ in range(60):
-            may = one.may()[:-1] + [("send", chance.randrange(3), "c")]
-            deed = chance.choice(may)
-            same = deed
-            if deed[0] in ("come", "lose", "double"):
-                way = [way[1:] for way in one.under_way() if way[0] == deed[1]][0]
-                same = (deed[0], [number for number, *rest in other.under_way() if tuple(rest) == way][-1])
-            self.same(one.do(deed), other.do(same))
+            deed = chance.choice(one.may()[:-1] + [("send", chance.randrange(3), "c")])
+            like = like_deed(one, other, deed)
+            self.same(one.do(deed), other.do(like))
             self.same(one.state(), other.state())
 
     def test_unlike_halls(self):

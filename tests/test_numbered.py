@@ -10,8 +10,8 @@ from causehall.numbered import NumberHall
 from causehall.seats import Seat
 from tests import test_halls
 from tests.models import NumberModel
-from tests.support import HallCase, is_number, no_hall_sizes, no_members, odd_but, odd_things, spoilt
-from tests.test_halls import WORDS
+from tests.support import is_number, no_hall_sizes, no_members, odd_but, odd_things, spoilt
+from tests.test_halls import WORDS, like_deed
 
 METHODS = ("do", "members", "is_short", "ids", "held", "wants", "under_way", "history", "deeds", "may", "book", "twin",
            "state", "told", "seat", "has_stopped", "seats")
@@ -379,13 +379,10 @@ class Standing(NumberCase):
             deed = chance.choice(one.may()[:-1] + [("send", chance.randrange(3), "c")])
             if deed[0] == "stop" and chance.random() < 0.8:
                 continue
-            same = deed
-            if deed[0] in ("come", "lose", "double"):
-                way = [way[1:] for way in one.under_way() if way[0] == deed[1]][0]
-                same = (deed[0], [number for number, *rest in other.under_way() if tuple(rest) == way][-1])
             if deed[0] == "send" and (one.has_stopped(deed[1]) or len(one.book()) == 30):
                 continue
-            self.same(one.do(deed), other.do(same))
+            like = like_deed(one, other, deed)
+            self.same(one.do(deed), other.do(like))
             self.same(one.state(), other.state())
 
     def test_unlike_halls(self):
