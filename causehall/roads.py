@@ -21,15 +21,13 @@ class Roads:
         """Put a thing on the road from a member to another one; its number."""
         self._check_road(start, goal)
         self._last += 1
-        self._things[self._last] = (start, goal, copied(thing))
+        self._things[self._last] = (start, goal, copied(thing), may_change(thing))
         return self._last
 
     def come(self, number):
         """The thing of this number comes: where it is from, its goal, and the thing."""
         self._check_under_way(number)
-        start, goal, thing = self._things.pop(number)
-        # A twin may still bear the kept thing.
-        return (start, goal, copied(thing))
+        return told_of(self._things.pop(number))
 
     def lose(self, number):
         """The thing of this number is lost; told is what would have come."""
@@ -38,12 +36,12 @@ class Roads:
     def double(self, number):
         """Another thing, equal to the one of this number, is under way, too; its number."""
         self._check_under_way(number)
-        start, goal, thing = self._things[number]
+        start, goal, thing = told_of(self._things[number])
         return self.put(start, goal, thing)
 
     def under_way(self):
         """All that is under way, rising by numbers."""
-        return [(number, start, goal, copied(thing)) for number, (start, goal, thing) in self._things.items()]
+        return [(number, *told_of(kept)) for number, kept in self._things.items()]
 
     def numbers(self):
         """The numbers of all that is under way, rising."""
@@ -72,6 +70,21 @@ class Roads:
         """Refuse what is no number of a thing under way."""
         if not is_whole(number, 1) or number not in self._things:
             raise NotOnRoad(number)
+
+
+def told_of(kept):
+    """Where a kept thing is from, its goal, and the thing; one that may change as a copy, as a twin may bear it too."""
+    start, goal, thing, changes = kept
+    if changes:
+        return (start, goal, copied(thing))
+    return (start, goal, thing)
+
+
+def may_change(thing):
+    """Whether a list or a dict is in the thing, so that who has it could change it."""
+    if isinstance(thing, tuple):
+        return any([may_change(part) for part in thing])
+    return isinstance(thing, (list, dict))
 
 
 def copied(thing):
