@@ -69,7 +69,7 @@ def asleep(hall):
 
 def foremost(hall):
     """A member whose term is no less than the others'."""
-    return max(range(hall.members()), key=lambda member: hall.seat(member).term())
+    return max([(hall.seat(member).term(), member) for member in range(hall.members())])[1]
 
 
 def do_all(hall, deeds):

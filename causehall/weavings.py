@@ -48,7 +48,7 @@ def weave(hall, lossy):
     ways = {start: Way(hall, [])}
     level = [(start, hall)]
     while len(level) > 0:
-        further = []
+        following = []
         for state, stands in level:
             way = ways[state]
             for deed in weaving_deeds(stands, lossy):
@@ -60,8 +60,8 @@ def weave(hall, lossy):
                     if len(ways) == MOST_WAYS:
                         raise TooMany(MOST_WAYS)
                     ways[reached] = Way(twin, [*way.path, deed])
-                    further.append((reached, twin))
-        level = further
+                    following.append((reached, twin))
+        level = following
     return ways
 
 

@@ -7,6 +7,8 @@ from causehall.books import Book
 from causehall.counts import Counts
 from causehall.errors import Full, NoNumber
 from causehall.letters import Letter
+from causehall.numbered import NumberHall
+from causehall.plain import PlainHall
 
 BIG = 10 ** 30 - 1
 
@@ -24,7 +26,7 @@ def odd_things():
         [(0, 1)], [(0, 1), (0, 1)], [[0, 1]], [(0, True)], [(True, 1)], [(0, 1, 2)], [(-1, 1)], [("sent", 0)],
         {}, {0: 1}, {"found": 1}, {(0, 1): [2]}, {0: 0, 1: 0}, {"a": {"b": (1, [2])}},
         Counts([0, 0]), Counts([1, 2, 3]), [Counts([0, 0]), None], Letter(1, 1, "tea", Counts([0, 0, 1])),
-        Book(2), [Book(3)], NoNumber(3), Full(30),
+        Book(2), [Book(3)], NoNumber(3), Full(30), NumberHall(2), PlainHall(2), (PlainHall(3), 1),
     ]
 
 

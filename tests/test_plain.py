@@ -195,7 +195,7 @@ class Telling(PlainCase):
 
     def test_equal_to_no_other_thing(self):
         for hall, _ in random_halls(12, 100):
-            for thing in [*odd_things(), hall.state(), hall.row(), NumberHall(2), [hall]]:
+            for thing in [*odd_but(lambda thing: isinstance(thing, PlainHall)), hall.state(), hall.row(), [hall]]:
                 self.assertIs(hall == thing, False)
                 self.assertIs(thing == hall, False)
                 self.assertIs(hall != thing, True)

@@ -203,6 +203,28 @@ class Copies(HallCase):
         self.same(twin.come(1), (0, 1, plain_deep()))
         self.same(roads.lose(2), (0, 1, plain_deep()))
 
+    def test_lists_and_dicts_in_tuples_alone(self):
+        for make in [lambda: (1, [2]), lambda: ("a", {"k": 1}), lambda: (((), ([],)), 1),
+                     lambda: ((1, 2), (3, ({0: []},)))]:
+            roads, thing = Roads(2), make()
+            roads.put(0, 1, thing)
+            roads.double(1)
+            twin = roads.twin()
+            for told in [thing, roads.under_way(), twin.under_way(), twin.come(1), roads.lose(2)]:
+                self.spoil(told)
+            self.same(roads.under_way(), [(1, 0, 1, make())])
+            self.same(twin.under_way(), [(2, 0, 1, make())])
+            self.same(roads.come(1), (0, 1, make()))
+
+    def test_things_that_never_change(self):
+        for thing in [None, "a", (), (1, ("a", (True, None))), counts_of(1, 2), (letter_of(0, (0, 0)), (1,))]:
+            roads = Roads(3)
+            roads.put(0, 2, thing)
+            roads.double(1)
+            self.same(roads.under_way(), [(1, 0, 2, thing), (2, 0, 2, thing)])
+            self.same(roads.twin().come(2), (0, 2, thing))
+            self.same(roads.come(1), (0, 2, thing))
+
     def test_equal_dicts_with_keys_in_their_order(self):
         roads = Roads(2)
         roads.put(0, 1, {"b": 1, "a": [2], (1, (2,)): {}})
